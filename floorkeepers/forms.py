@@ -91,10 +91,10 @@ def is_word(house, thing):
     return all([0 <= thing[d] - thing[d - 1] <= 1 for d in range(1, len(thing))])
 
 
-def is_tight(low, high):
-    """Whether the words of two neighbouring floors are tight."""
+def may_follow(room, low, high):
+    """Whether a floor of so many rooms may have the high word, tight behind the low one of the floor ahead."""
     more = high[-1] - low[-1]
-    return all([low[d] <= high[d] <= low[d] + more for d in range(len(low))])
+    return more <= room and all([low[d] <= high[d] <= low[d] + more for d in range(len(low))])
 
 
 def is_knowledge(house, thing):
@@ -109,5 +109,4 @@ def is_knowledge(house, thing):
         return False
     if not all([is_word(house, word) for word in words]) or words[0][-1] > rooms[0]:
         return False
-    later = range(1, len(rooms))
-    return all([is_tight(words[j - 1], words[j]) and words[j][-1] - words[j - 1][-1] <= rooms[j] for j in later])
+    return all([may_follow(rooms[j], words[j - 1], words[j]) for j in range(1, len(rooms))])
