@@ -42,6 +42,11 @@ def done(house, state, move):
     """The state behind a move."""
     if not can_do(house, state, move):
         raise CannotDo(0)
+    return moved(house, state, move)
+
+
+def moved(house, state, move):
+    """The state behind a move that can be done."""
     word, thing, downs = move
     places = list(state)
     places[thing] = 0 if word == "ask" else len(house[1])

@@ -1,7 +1,7 @@
 """Runs: what is behind them, and those of some keepers."""
 
 from floorkeepers.errors import CannotDo
-from floorkeepers.moves import asks_of, can_do, choices, done, downs_long, entry_of
+from floorkeepers.moves import asks_of, can_do, choices, done, downs_long, entry_of, moved
 
 
 def ran(house, state, run):
@@ -69,4 +69,4 @@ def come_to(house, state, entry):
     moves = [("strike", thing, ())]
     if word == "ask":
         moves = asks_of(house, state, thing)
-    return sorted([done(house, state, move) for move in moves])
+    return sorted([moved(house, state, move) for move in moves])

@@ -8,25 +8,10 @@ from floorkeepers.errors import CannotDo
 from floorkeepers.forms import is_run
 from floorkeepers.moves import asks_of
 from floorkeepers.runs import come_to, last_use_run, log_of, ran, worth_run
-from tests.helper import Case, HOUSES, asks_by_keepers, exact, states_by_counting
+from tests.helper import Case, HOUSES, asks_by_keepers, exact, random_run, states_by_counting
 
 HOUSE, STATE = (4, (1, 2)), (1, 0, 2, 1)
 MORE = [(6, (1, 1, 1, 1)), (7, (2, 1, 2)), (9, (2, 3)), (6, (1, 2, 1, 2)), (6, (4,))]
-
-
-def random_run(dice, house, state, long):
-    """A run that can be done, the log it has, and the state behind it."""
-    run, log = [], []
-    for _ in range(long if house[0] else 0):
-        thing = dice.randrange(house[0])
-        downs, behind = dice.choice(asks_by_keepers(house, state, thing))
-        move = ("ask", thing, downs)
-        if dice.randrange(4) == 0:
-            move, behind = ("strike", thing, ()), state[:thing] + (len(house[1]),) + state[thing + 1:]
-        run.append(move)
-        log.append((move[0], thing, state[thing]))
-        state = behind
-    return tuple(run), tuple(log), state
 
 
 def chosen_run(house, state, row, choose):

@@ -5,7 +5,7 @@ import random
 import unittest
 
 from floorkeepers.words import is_nested, known_sizes, tightened
-from tests.helper import Case, all_words, exact, tight
+from tests.helper import Case, all_words, exact, nested_like, tight
 
 
 def least_words(rows, sizes):
@@ -22,11 +22,6 @@ def least_words(rows, sizes):
 
 def over(word, row):
     return all(number >= less for number, less in zip(word, row))
-
-
-def nested_like(words):
-    ups = [{d for d in range(1, len(word)) if word[d] != word[d - 1]} for word in words]
-    return all(ups[j - 1] <= ups[j] for j in range(1, len(words)))
 
 
 class TestKnown(Case):
