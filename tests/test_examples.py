@@ -2,12 +2,21 @@
 
 import unittest
 
+from floorkeepers.ahead import ahead
+from floorkeepers.blocks import alike, blocks_of, joint, lies_in, normal_of
+from floorkeepers.claims import follows, greatest_least, is_claim_row
+from floorkeepers.fitting import back_state, fits, front_state, states_of
+from floorkeepers.floors import barred_things, floors_of, may_be_within, sure_things, surely_within
 from floorkeepers.forms import is_knowledge, is_move, is_start, is_state
 from floorkeepers.hall import Hall
 from floorkeepers.houses import all_states, filled_up, rooms_within, sizes_of, things_on, things_within
+from floorkeepers.leading import can_be, first_knowledge, knowledge_behind, led
+from floorkeepers.lots import least_within, most_within, pair_floors, state_for
 from floorkeepers.moves import asks_of, can_do, done, downs_many
 from floorkeepers.reader import read_book, read_run
+from floorkeepers.reasons import is_reason_against, reason_against, reason_not, reason_within
 from floorkeepers.runs import come_to, last_use_run, log_of, ran, worth_run
+from floorkeepers.showing import is_showing, showing_to, showing_with, showings_many
 from floorkeepers.texts import show_book, show_run
 from floorkeepers.words import is_nested, known_sizes, tightened
 from tests.helper import Case
@@ -61,6 +70,73 @@ class TestExamples(Case):
         self.same([known_sizes(known), is_nested(known)], [(1, 2), True])
         self.same([tightened(((0, 0, 1), (0, 0, 0)), (1, 1)), tightened(((0, 0, 0), (0, 0, 0)), (2, 2)),
                    tightened(((0, 2),), (1,))], [((0, 0, 1), (0, 0, 1)), ((0, 1, 2), (0, 1, 2)), None])
+
+    def test_leading_and_fitting(self):
+        house, empty = (4, (1, 1)), (2, 2, 2, 2)
+        self.same(first_knowledge(house, empty), ((0, 1, 2, 3), ((0, 0, 0, 0, 0), (0, 0, 0, 0, 0))))
+        log = (("ask", 0, 2), ("ask", 1, 2), ("ask", 2, 2))
+        self.same([knowledge_behind(house, empty, log[:2]), knowledge_behind(house, empty, log)],
+                  [((1, 0, 2, 3), ((0, 1, 1, 1, 1), (0, 1, 2, 2, 2))),
+                   ((2, 1, 0, 3), ((0, 1, 1, 1, 1), (0, 1, 1, 2, 2)))])
+        known = knowledge_behind(house, empty, log)
+        self.same([states_of(house, known), known_sizes(known), is_nested(known), front_state(house, known),
+                   back_state(house, known)],
+                  [[(1, 2, 0, 2), (2, 1, 0, 2)], (1, 2), True, (2, 1, 0, 2), (1, 2, 0, 2)])
+        self.same([can_be(house, empty, log + (("ask", 2, 1),)), led(house, known, ("strike", 0, 1))],
+                  [False, ((2, 1, 3, 0), ((0, 1, 1, 1, 1), (0, 1, 1, 1, 1)))])
+        self.same(first_knowledge((3, (1, 1)), None), ((0, 1, 2), ((0, 0, 0, 1), (0, 0, 1, 2))))
+        self.same([fits(house, known, state) for state in [(1, 2, 0, 2), (2, 1, 0, 2), (2, 2, 0, 1)]],
+                  [True, True, False])
+
+    def test_floors_and_lots(self):
+        house, known = (4, (1, 1)), ((2, 1, 0, 3), ((0, 1, 1, 1, 1), (0, 1, 1, 2, 2)))
+        self.same([floors_of(house, known, thing) for thing in range(4)], [(1, 2), (1, 2), (0,), (2,)])
+        self.same([sure_things(known, 0), sure_things(known, 1), barred_things(known, 0), barred_things(known, 1)],
+                  [(2,), (2,), (0, 1, 3), (3,)])
+        self.same([surely_within(known, 1, 1), may_be_within(known, 1, 1), may_be_within(known, 1, 0)],
+                  [False, True, False])
+        self.same([state_for(house, known, {0: 1}), state_for(house, known, {}), state_for(house, known, {0: 1, 1: 1})],
+                  [(1, 2, 0, 2), (2, 1, 0, 2), None])
+        self.same([pair_floors(house, known, 0, 1), pair_floors(house, known, 2, 3)], [[(1, 2), (2, 1)], [(0, 2)]])
+        self.same([least_within(house, known, (0, 2), 1), most_within(house, known, (0, 2), 1),
+                   least_within(house, known, (), 0)[0]], [(1, (2, 1, 0, 2)), (2, (1, 2, 0, 2)), 0])
+
+    def test_ahead_and_showing(self):
+        house, empty = (3, (1, 1)), (2, 2, 2)
+        log = (("ask", 0, 2), ("ask", 1, 2), ("ask", 2, 2))
+        known = knowledge_behind(house, empty, log[:2])
+        self.same([known, ahead(house, known, log[2], (2, 1, 0)), ahead(house, known, log[2], (1, 2, 0))],
+                  [((1, 0, 2), ((0, 1, 1, 1), (0, 1, 2, 2))), ((1, 0, 2), ("ask", 2, (1, 0))),
+                   ((1, 0, 2), ("ask", 2, (1, 1)))])
+        self.same(showing_to(house, empty, log, (2, 1, 0)),
+                  ((2, 2, 2), (("ask", 0, ()), ("ask", 1, (0,)), ("ask", 2, (1, 0)))))
+        self.same([showing_with(house, empty, log, {0: 0}), showings_many(house, empty, log),
+                   showings_many(house, None, log)], [None, 2, 4])
+        self.same(is_showing(house, empty, log[:1], (empty, (("ask", 0, ()),))), True)
+
+    def test_claims_and_reasons(self):
+        house, empty = (4, (1, 1)), (2, 2, 2, 2)
+        log = (("ask", 0, 2), ("ask", 1, 2), ("ask", 2, 2))
+        self.same([greatest_least(house, empty, log, 6), reason_against(house, empty, log),
+                   reason_within(house, empty, log, 2, 0)],
+                  [((0, 1, 1, 1, 1), (0, 1, 1, 2, 2)), None, ((6, 0, 1, 1),)])
+        more = log + (("ask", 2, 1),)
+        self.same([follows(house, empty, more, (6, 0, 1, 1), (7, 0, 0, 1)), reason_against(house, empty, more)],
+                  [True, ((6, 0, 1, 1), (7, 0, 0, 1))])
+        self.same([is_claim_row(house, empty, log, ((6, 0, 1, 1), (6, 1, 1, 1), (6, 1, 2, 1))),
+                   is_claim_row(house, empty, log, ((6, 1, 2, 2),))], [True, False])
+        self.same([reason_not(house, empty, log, 1, 0), reason_not(house, empty, log, 1, 1),
+                   reason_within(house, empty, log, 0, 1)], [((6, 0, 1, 1),), None, None])
+        self.same(is_reason_against(house, empty, more, ((6, 0, 1, 1),)), False)
+
+    def test_blocks(self):
+        house, known = (4, (1, 1)), ((2, 1, 0, 3), ((0, 1, 1, 1, 1), (0, 1, 1, 2, 2)))
+        self.same(blocks_of(known), ((((2,), 1),), (((2,), 1), ((0, 1), 2))))
+        self.same([normal_of(known)[0], alike(known, ((2, 0, 1, 3), known[1])),
+                   alike(known, ((2, 0, 3, 1), known[1]))], [(2, 0, 1, 3), True, False])
+        sharp = ((2, 1, 0, 3), ((0, 1, 1, 1, 1), (0, 1, 2, 2, 2)))
+        self.same([blocks_of(sharp)[1], lies_in(house, sharp, known), lies_in(house, known, sharp),
+                   joint(house, known, sharp) == sharp], [(((1, 2), 2),), True, False, True])
 
 
 if __name__ == "__main__":

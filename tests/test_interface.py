@@ -24,6 +24,23 @@ FUNCTIONS = {
     "runs": "ran(house, state, run) log_of(house, state, run) last_use_run(house, state, row) "
             "worth_run(house, state, row, worths) come_to(house, state, entry)",
     "words": "known_sizes(knowledge) is_nested(knowledge) tightened(rows, sizes)",
+    "leading": "first_knowledge(house, start) led(house, knowledge, entry) led_by(house, knowledge, log) "
+               "knowledge_behind(house, start, log) can_be(house, start, log) words_through(house, start, log)",
+    "fitting": "fits(house, knowledge, state) states_of(house, knowledge) front_state(house, knowledge) "
+               "back_state(house, knowledge) reaching_state(house, knowledge, floor, count)",
+    "floors": "surely_within(knowledge, thing, floor) may_be_within(knowledge, thing, floor) "
+              "floors_of(house, knowledge, thing) sure_things(knowledge, floor) barred_things(knowledge, floor)",
+    "lots": "state_for(house, knowledge, wanted) pair_floors(house, knowledge, one, other) "
+            "least_within(house, knowledge, lot, floor) most_within(house, knowledge, lot, floor)",
+    "ahead": "ahead(house, knowledge, entry, state)",
+    "showing": "showing_to(house, start, log, state) showing(house, start, log) showing_with(house, start, log, wanted) "
+               "is_showing(house, start, log, thing) showings_many(house, start, log)",
+    "claims": "follows(house, start, log, ahead, claim) is_claim_row(house, start, log, thing) "
+              "greatest_least(house, start, log, moment)",
+    "reasons": "reason_against(house, start, log) reason_within(house, start, log, thing, floor) "
+               "reason_not(house, start, log, thing, floor) is_reason_against(house, start, log, thing)",
+    "blocks": "blocks_of(knowledge) normal_of(knowledge) alike(one, other) lies_in(house, one, other) "
+              "joint(house, one, other)",
     "errors": "Wrong(place) NoText(line) CannotDo(index) CannotBe(index) TooMany(most) NoIndex(index) Broken(duty) "
               "NoDuty(duty)",
 }
