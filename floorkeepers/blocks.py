@@ -42,11 +42,19 @@ def alike(one, other):
 
 def lies_in(house, one, other):
     """Whether each state that fits one fits the other."""
+    return known_sizes(one) == known_sizes(other) and state_beyond(house, one, other) is None
+
+
+def state_beyond(house, one, other):
+    """A state that fits one, but not the other of the same sizes; None if there is none."""
     order, words = other
-    if known_sizes(one) != known_sizes(other):
-        return False
-    return all([least_within(house, one, order[:d], floor)[0] >= word[d]
-                for floor, word in enumerate(words) for d in cuts_of(word)])
+    for floor, word in enumerate(words):
+        # What a word needs up to its cuts tells all that it needs.
+        for end in cuts_of(word):
+            number, state = least_within(house, one, order[:end], floor)
+            if number < word[end]:
+                return state
+    return None
 
 
 def joint(house, one, other):

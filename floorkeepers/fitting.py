@@ -30,7 +30,7 @@ def states_of(house, knowledge):
     numbers = floor_numbers(house, knowledge)
     rows = [()]
     for _ in order:
-        rows = [row + (floor,) for row in rows for floor in next_floors(words, numbers, row)]
+        rows = [row + (floor,) for row in rows for floor in next_floors(words, numbers, counts_of(row, numbers))]
         # Some state that fits begins with each of these rows, so there are no fewer states.
         if len(rows) > MOST_STATES:
             raise TooMany(MOST_STATES)
@@ -44,17 +44,22 @@ def floor_numbers(house, knowledge):
     return [ends[at] - ends[at - 1] for at in range(1, len(ends))]
 
 
-def next_floors(words, numbers, row):
-    """The list of the floors, or OUT, of the next thing of the order, row being those of the things ahead of it."""
+def counts_of(row, numbers):
+    """The tuple of how many things of a row stand on each floor, and OUT."""
+    return tuple([row.count(floor) for floor in range(len(numbers))])
+
+
+def next_floors(words, numbers, counts):
+    """The list of the floors, or OUT, of the next thing of the order, counts being how many ahead of it stand where."""
+    end = sum(counts) + 1
     floors = []
     within = 0
-    for floor, number in enumerate(numbers):
-        count = row.count(floor)
-        if count < number:
+    for floor, count in enumerate(counts):
+        if count < numbers[floor]:
             floors.append(floor)
         within += count
         # The word needs this thing within the floor, so it cannot stand behind.
-        if floor < len(words) and within < words[floor][len(row) + 1]:
+        if floor < len(words) and within < words[floor][end]:
             return floors
     return floors
 

@@ -422,6 +422,56 @@ def counted_states(known):
     return sum(paths(known)[0][-1].values())
 
 
+def swapped(known, one, other):
+    """The knowledge with the things at two places exchanged."""
+    order = list(known[0])
+    order[one], order[other] = order[other], order[one]
+    return (tuple(order), known[1])
+
+
+def pairs_of_knowledges(dice, house, many):
+    """Pairs of knowledges of a house: of any words, of one order, of words of the same sizes."""
+    words = all_tight(house)
+    by_sizes = {}
+    for some in words:
+        by_sizes.setdefault(tuple(word[-1] for word in some), []).append(some)
+    found = []
+    for _ in range(many):
+        first = dice.choice(words)
+        one = (shuffled(dice, house[0]), first)
+        others = by_sizes[tuple(word[-1] for word in first)]
+        found.append((one, (one[0], dice.choice(others))))
+        found.append((one, (shuffled(dice, house[0]), dice.choice(others))))
+        found.append((one, (shuffled(dice, house[0]), first)))
+        found.append((one, (shuffled(dice, house[0]), dice.choice(words))))
+        if house[0] > 1:
+            place = dice.randrange(house[0] - 1)
+            found.append((one, swapped(one, place, place + 1)))
+    return found
+
+
+def sizes_like(known):
+    """The sizes of a knowledge."""
+    return [word[-1] for word in known[1]]
+
+
+def patterns_by_keepers(house, states, row):
+    """A dict from each pattern of a row of asks to the states behind it, from any of these states, by all keepers."""
+    found = {(): list(states)}
+    for x in row:
+        longer = {}
+        for floors, now in found.items():
+            for floor in sorted({state[x] for state in now}):
+                longer[floors + (floor,)] = all_behind(house, now, ("ask", x, floor))
+        found = longer
+    return found
+
+
+def some_row(dice, house, long):
+    """Any row of so many asks."""
+    return tuple(dice.randrange(house[0]) for _ in range(long if house[0] else 0))
+
+
 class Rules:
     """The moments of a log, and each rule of [26], one by one as the document tells them."""
 

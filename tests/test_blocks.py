@@ -9,7 +9,8 @@ from floorkeepers.errors import CannotBe
 from floorkeepers.forms import is_knowledge
 from floorkeepers.leading import first_knowledge, led
 from tests.helper import (BIG, Case, SMALL, all_tight, big_starts, counted_states, entries_of, exact, fits_like,
-                          fitting, fitting_some, known_behind_logs, random_knowledges, shuffled, small_knowledges)
+                          fitting, fitting_some, known_behind_logs, pairs_of_knowledges, random_knowledges, shuffled,
+                          small_knowledges, swapped)
 
 HOUSE, KNOWN = (4, (1, 1)), ((2, 1, 0, 3), ((0, 1, 1, 1, 1), (0, 1, 1, 2, 2)))
 SHARP = ((2, 1, 0, 3), ((0, 1, 1, 1, 1), (0, 1, 2, 2, 2)))
@@ -40,13 +41,6 @@ def normal_like(known):
     ends = {d for word in words for d in cuts_like(word)}
     keys = {x: (len([d for d in ends if d <= place]), x) for place, x in enumerate(order)}
     return (tuple(sorted(order, key=lambda x: keys[x])), words)
-
-
-def swapped(known, one, other):
-    """The knowledge with the things at two places exchanged."""
-    order = list(known[0])
-    order[one], order[other] = order[other], order[one]
-    return (tuple(order), known[1])
 
 
 class TestBlocks(Case):
@@ -106,26 +100,6 @@ class TestBlocks(Case):
 
 class TestTwo(Case):
 
-    def pairs(self, dice, house, many):
-        """Pairs of knowledges of a house: of any words, of one order, of words of the same sizes."""
-        words = all_tight(house)
-        by_sizes = {}
-        for some in words:
-            by_sizes.setdefault(tuple(word[-1] for word in some), []).append(some)
-        found = []
-        for _ in range(many):
-            first = dice.choice(words)
-            one = (shuffled(dice, house[0]), first)
-            others = by_sizes[tuple(word[-1] for word in first)]
-            found.append((one, (one[0], dice.choice(others))))
-            found.append((one, (shuffled(dice, house[0]), dice.choice(others))))
-            found.append((one, (shuffled(dice, house[0]), first)))
-            found.append((one, (shuffled(dice, house[0]), dice.choice(words))))
-            if house[0] > 1:
-                place = dice.randrange(house[0] - 1)
-                found.append((one, swapped(one, place, place + 1)))
-        return found
-
     def check(self, house, one, other):
         ahead = exact((one, other))
         first, second = fitting(house, *one), fitting(house, *other)
@@ -174,7 +148,7 @@ class TestTwo(Case):
         dice = random.Random(30)
         told = [0, 0, 0]
         for house in SMALL:
-            for one, other in self.pairs(dice, house, 40):
+            for one, other in pairs_of_knowledges(dice, house, 40):
                 self.check(house, one, other)
                 told[0] += alike(one, other)
                 told[1] += lies_in(house, one, other)
@@ -235,7 +209,7 @@ class TestTwo(Case):
     def test_alike_ones_let_the_same_logs_happen(self):
         dice = random.Random(33)
         for house in [(3, (1, 1)), (3, (2,)), (2, (1, 1)), (3, (1,))]:
-            for one, other in self.pairs(dice, house, 6):
+            for one, other in pairs_of_knowledges(dice, house, 6):
                 if [word[-1] for word in one[1]] == [word[-1] for word in other[1]]:
                     long = one[1][-1][-1]
                     same = self.logs_of(house, one, long) == self.logs_of(house, other, long)

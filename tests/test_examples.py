@@ -3,16 +3,21 @@
 import unittest
 
 from floorkeepers.ahead import ahead
+from floorkeepers.bestworst import behind_bounds, best_run, pattern_with, turn_patterns
 from floorkeepers.blocks import alike, blocks_of, joint, lies_in, normal_of
 from floorkeepers.claims import follows, greatest_least, is_claim_row
+from floorkeepers.counts import floor_counts, index_of, lot_counts, state_at, states_with
 from floorkeepers.fitting import back_state, fits, front_state, states_of
 from floorkeepers.floors import barred_things, floors_of, may_be_within, sure_things, surely_within
 from floorkeepers.forms import is_knowledge, is_move, is_start, is_state
 from floorkeepers.hall import Hall
 from floorkeepers.houses import all_states, filled_up, rooms_within, sizes_of, things_on, things_within
+from floorkeepers.housesfor import all_houses, first_against, houses_for
 from floorkeepers.leading import can_be, first_knowledge, knowledge_behind, led
 from floorkeepers.lots import least_within, most_within, pair_floors, state_for
 from floorkeepers.moves import asks_of, can_do, done, downs_many
+from floorkeepers.parting import can_happen, naming_log, parting_log
+from floorkeepers.patterns import as_log, found_behind, greatest_pattern, is_pattern, least_pattern, patterns_of
 from floorkeepers.reader import read_book, read_run
 from floorkeepers.reasons import is_reason_against, reason_against, reason_not, reason_within
 from floorkeepers.runs import come_to, last_use_run, log_of, ran, worth_run
@@ -137,6 +142,41 @@ class TestExamples(Case):
         sharp = ((2, 1, 0, 3), ((0, 1, 1, 1, 1), (0, 1, 2, 2, 2)))
         self.same([blocks_of(sharp)[1], lies_in(house, sharp, known), lies_in(house, known, sharp),
                    joint(house, known, sharp) == sharp], [(((1, 2), 2),), True, False, True])
+
+    def test_parting(self):
+        house, known = (4, (1, 1)), ((2, 1, 0, 3), ((0, 1, 1, 1, 1), (0, 1, 1, 2, 2)))
+        sharp = ((2, 1, 0, 3), ((0, 1, 1, 1, 1), (0, 1, 2, 2, 2)))
+        self.same([naming_log(house, (1, 2, 0, 2)), parting_log(house, known, known)],
+                  [(("ask", 2, 0), ("ask", 0, 1)), None])
+        self.same([can_happen(house, some, (("ask", 2, 0), ("ask", 0, 1))) for some in (known, sharp)], [True, False])
+
+    def test_counts(self):
+        house, empty = (4, (1, 1)), (2, 2, 2, 2)
+        known = knowledge_behind(house, empty, (("ask", 0, 2), ("ask", 1, 2), ("ask", 2, 2)))
+        self.same([states_with(house, known, {}), states_with(house, known, {0: 1, 3: 2}),
+                   states_with(house, known, {0: 1, 1: 1})], [2, 1, 0])
+        self.same([floor_counts(house, known, 1), lot_counts(house, known, (0, 1), 1), lot_counts(house, known, (), 0)],
+                  [(0, 1, 1), (0, 2, 0), (2,)])
+        self.same([state_at(house, known, 0), index_of(house, known, (2, 1, 0, 2))], [(1, 2, 0, 2), 1])
+        self.same(states_with((16, (3, 3, 3, 3)), first_knowledge((16, (3, 3, 3, 3)), None), {}), 672672000)
+
+    def test_patterns_and_bestworst(self):
+        house, empty = (4, (1, 1)), (2, 2, 2, 2)
+        known = knowledge_behind(house, empty, as_log((0, 1, 2), (2, 2, 2)))
+        self.same([patterns_of(house, known, (0, 1)), least_pattern(house, known, (0, 1)),
+                   greatest_pattern(house, known, (0, 1))], [[(1, 2), (2, 1), (2, 2)], (1, 2), (2, 2)])
+        self.same([behind_bounds(house, known, (0, 1)), found_behind((2, 1), 1),
+                   pattern_with(house, known, (0, 1), 1, 3)], [((2, 2), (1, 2)), 1, None])
+        self.same([turn_patterns(house, known, (0, 1)), is_pattern(house, known, (0, 1), (1, 1)),
+                   patterns_of(house, known, ())], [[(1, 2), (2, 1), (2, 2)], False, [()]])
+        self.same(best_run(house, empty, (0, 1)), ((2, 2, 2, 2), (("ask", 0, ()), ("ask", 1, (0,)))))
+
+    def test_housesfor(self):
+        log = (("ask", 0, 2), ("ask", 1, 2), ("ask", 0, 1), ("ask", 2, 2), ("ask", 1, 2))
+        self.same([houses_for(3, 2, log), houses_for(3, 2, (("ask", 0, 2), ("ask", 0, 2))),
+                   first_against(3, (1, 2), log)], [[(3, (1, 1))], [], 4])
+        self.same([len(all_houses(3, 1)), len(all_houses(3, 4)),
+                   houses_for(2, 1, (("ask", 0, 1), ("ask", 1, 1), ("ask", 0, 0)))[:2]], [8, 70, [(2, (2,)), (2, (3,))]])
 
 
 if __name__ == "__main__":

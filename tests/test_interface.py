@@ -41,6 +41,17 @@ FUNCTIONS = {
                "reason_not(house, start, log, thing, floor) is_reason_against(house, start, log, thing)",
     "blocks": "blocks_of(knowledge) normal_of(knowledge) alike(one, other) lies_in(house, one, other) "
               "joint(house, one, other)",
+    "parting": "can_happen(house, knowledge, log) naming_log(house, state) parting_state(house, one, other) "
+               "parting_log(house, one, other)",
+    "counts": "states_with(house, knowledge, wanted) index_of(house, knowledge, state) "
+              "floor_counts(house, knowledge, thing) lot_counts(house, knowledge, lot, floor) "
+              "state_at(house, knowledge, index)",
+    "patterns": "as_log(row, floors) least_pattern(house, knowledge, row) greatest_pattern(house, knowledge, row) "
+                "is_pattern(house, knowledge, row, thing) patterns_of(house, knowledge, row) "
+                "found_behind(floors, floor)",
+    "bestworst": "behind_bounds(house, knowledge, row) best_run(house, start, row) worst_run(house, start, row) "
+                 "pattern_with(house, knowledge, row, floor, number) turn_patterns(house, knowledge, row)",
+    "housesfor": "all_houses(many, floors) houses_for(many, floors, log) first_against(many, rooms, log)",
     "errors": "Wrong(place) NoText(line) CannotDo(index) CannotBe(index) TooMany(most) NoIndex(index) Broken(duty) "
               "NoDuty(duty)",
 }
