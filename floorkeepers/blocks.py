@@ -1,7 +1,7 @@
 """Blocks: what of a knowledge the states that fit tell."""
 
 from floorkeepers.lots import least_within
-from floorkeepers.words import known_sizes
+from floorkeepers.words import greater_ones, known_sizes
 
 
 def blocks_of(knowledge):
@@ -59,9 +59,4 @@ def state_beyond(house, one, other):
 
 def joint(house, one, other):
     """The knowledge that just the states fit which fit both, of one order and the same sizes."""
-    return (one[0], tuple([greater_word(word, more) for word, more in zip(one[1], other[1])]))
-
-
-def greater_word(one, other):
-    """The word of the greater one of each two integers of two words."""
-    return tuple([max(number, more) for number, more in zip(one, other)])
+    return (one[0], tuple([tuple(greater_ones(word, more)) for word, more in zip(one[1], other[1])]))

@@ -9,10 +9,8 @@ MOST_ROOMS = 8
 def all_houses(many, floors):
     """The ascending list of all houses with so many things and floors that have few rooms together."""
     rows = [()]
-    for ahead in range(floors):
-        # Each floor behind needs a room, too.
-        most = MOST_ROOMS - (floors - ahead - 1)
-        rows = [row + (room,) for row in rows for room in range(1, most - sum(row) + 1)]
+    for _ in range(floors):
+        rows = [row + (room,) for row in rows for room in range(1, MOST_ROOMS - sum(row) + 1)]
     return [(many, row) for row in rows]
 
 

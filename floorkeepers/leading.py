@@ -44,27 +44,30 @@ def words_through(house, start, log):
     return led_while_can_be(house, first_knowledge(house, start), log)
 
 
-def all_led(house, knowledge, log):
+def all_led(house, knowledge, log, known=0):
     """The list of the knowledge and those behind each entry of a log that can be."""
-    knowns = led_while_can_be(house, knowledge, log)
+    knowns = led_while_can_be(house, knowledge, log, known)
     if len(knowns) <= len(log):
         raise CannotBe(len(knowns) - 1)
     return knowns
 
 
-def led_while_can_be(house, knowledge, log):
+def led_while_can_be(house, knowledge, log, known=0):
     """The list of the knowledge and those behind each entry, up to the first one that cannot be."""
     knowns = [knowledge]
     for entry in log:
-        known = led_if_can_be(house, knowns[-1], entry)
-        if known is None:
+        behind = led_if_can_be(house, knowns[-1], entry, known)
+        if behind is None:
             return knowns
-        knowns.append(known)
+        knowns.append(behind)
     return knowns
 
 
-def led_if_can_be(house, knowledge, entry):
-    """The knowledge led by an entry, None if the entry cannot be."""
+def led_if_can_be(house, knowledge, entry, known=0):
+    """The knowledge led by an entry, None if the entry cannot be.
+
+    Of so many first floors as known tells, the keepers are known to put down what stands last in order.
+    """
     words = words_amid(knowledge, entry)
     if words is None:
         return None
@@ -73,8 +76,11 @@ def led_if_can_be(house, knowledge, entry):
     if word == "strike":
         return (others + (thing,), tuple([row + row[-1:] for row in words]))
     long = floors_put_down(house, knowledge, entry)
-    rows = [asked_word(row, floor < long) for floor, row in enumerate(words)]
-    return ((thing,) + others, tuple(rows))
+    words = tuple([put_down(row, floor < known) if floor < long else row for floor, row in enumerate(words)])
+    if known > 0:
+        # A known floor may keep more of the first things than the one behind it was told of.
+        words = tightened(words, tuple([row[-1] for row in words]))
+    return ((thing,) + others, tuple([(0,) + tuple([number + 1 for number in row]) for row in words]))
 
 
 def words_amid(knowledge, entry):
@@ -100,8 +106,8 @@ def floors_put_down(house, knowledge, entry):
     return len([size for size, room in pairs[:entry[2]] if size == room])
 
 
-def asked_word(row, puts_down):
-    """The word behind an ask, of a floor whose keeper put a thing down, or did not."""
-    if puts_down:
-        row = [max(0, number - 1) for number in row]
-    return (0,) + tuple([number + 1 for number in row])
+def put_down(row, known):
+    """The integers of a floor whose keeper put a thing down, of which it is known, or not, that it stands last."""
+    if known:
+        return tuple([min(number, row[-1] - 1) for number in row])
+    return tuple([max(0, number - 1) for number in row])

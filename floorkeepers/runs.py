@@ -31,9 +31,8 @@ def last_use_run(house, state, row):
     now = state
     run = []
     for thing in row:
-        order = [thing] + [other for other in order if other != thing]
-        ranks = {other: -place for place, other in enumerate(order)}
-        run.append(ask_by(house, now, thing, ranks))
+        order = asked_first(order, thing)
+        run.append(ask_by(house, now, thing, use_ranks(order)))
         now = done(house, now, run[-1])
     return tuple(run)
 
@@ -41,6 +40,16 @@ def last_use_run(house, state, row):
 def order_at_first(house, state):
     """The list of all things by floor and thing, OUT last."""
     return [thing for _, thing in sorted([(state[thing], thing) for thing in range(house[0])])]
+
+
+def asked_first(order, thing):
+    """The list of all things in order behind an ask of one."""
+    return [thing] + [other for other in order if other != thing]
+
+
+def use_ranks(order):
+    """Ranks by which what stands last in order is of least rank."""
+    return {thing: -place for place, thing in enumerate(order)}
 
 
 def worth_run(house, state, row, worths):
@@ -57,8 +66,13 @@ def ask_by(house, state, thing, ranks):
     """The ask in which each keeper puts down the thing of least rank that it may."""
     downs = ()
     for _ in range(downs_long(house, state, thing)):
-        downs = downs + (min(choices(house, state, thing, downs), key=lambda down: ranks[down]),)
+        downs = downs + (least_choice(house, state, thing, downs, ranks),)
     return ("ask", thing, downs)
+
+
+def least_choice(house, state, thing, downs, ranks):
+    """The thing of least rank that the next keeper may put down, downs being put down already."""
+    return min(choices(house, state, thing, downs), key=lambda down: ranks[down])
 
 
 def come_to(house, state, entry):

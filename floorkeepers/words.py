@@ -28,12 +28,14 @@ def tightened(rows, sizes):
 
 def along_counts(row, size):
     """The least integers from 0 on that go up by one at most, not less than the row, or the size at the end."""
-    word = [max(0, number) for number in row]
+    word = greater_ones(row, [0] * len(row))
     word[-1] = max(word[-1], size)
     for d in range(1, len(word)):
-        word[d] = max(word[d], word[d - 1])
+        if word[d] < word[d - 1]:
+            word[d] = word[d - 1]
     for d in range(len(word) - 2, -1, -1):
-        word[d] = max(word[d], word[d + 1] - 1)
+        if word[d] < word[d + 1] - 1:
+            word[d] = word[d + 1] - 1
     return word
 
 
@@ -41,8 +43,14 @@ def along_floors(rows, sizes):
     """The least integers, not less than rows, that are tight between neighbouring floors."""
     words = list(rows)
     for floor in range(1, len(words)):
-        words[floor] = [max(high, low) for high, low in zip(words[floor], words[floor - 1])]
+        words[floor] = greater_ones(words[floor], words[floor - 1])
     for floor in range(len(words) - 2, -1, -1):
         more = sizes[floor + 1] - sizes[floor]
-        words[floor] = [max(low, high - more) for low, high in zip(words[floor], words[floor + 1])]
+        words[floor] = greater_ones(words[floor], [number - more for number in words[floor + 1]])
     return words
+
+
+def greater_ones(one, other):
+    """The list of the greater one of each two integers of two rows."""
+    # Many thousands of calls of max would take much longer than this.
+    return [number if number > more else more for number, more in zip(one, other)]

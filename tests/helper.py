@@ -472,6 +472,11 @@ def some_row(dice, house, long):
     return tuple(dice.randrange(house[0]) for _ in range(long if house[0] else 0))
 
 
+# (house, words and things): of holes alone, from the start None, so many unlike knowledges are behind the last one.
+JUST_300 = ((9, (2, 2, 1, 1)), (("ask", 8), ("ask", 3), ("strike", 7), ("ask", 0), ("ask", 1), ("strike", 2)))
+JUST_301 = ((9, (2, 1, 1, 3)), (("ask", 5), ("ask", 0), ("strike", 4), ("ask", 1), ("ask", 3), ("ask", 2)))
+
+
 class Rules:
     """The moments of a log, and each rule of [26], one by one as the document tells them."""
 

@@ -1,4 +1,4 @@
-"""The examples of the document that need no more than what is written by now."""
+"""The examples of the document."""
 
 import unittest
 
@@ -7,13 +7,16 @@ from floorkeepers.bestworst import behind_bounds, best_run, pattern_with, turn_p
 from floorkeepers.blocks import alike, blocks_of, joint, lies_in, normal_of
 from floorkeepers.claims import follows, greatest_least, is_claim_row
 from floorkeepers.counts import floor_counts, index_of, lot_counts, state_at, states_with
+from floorkeepers.desk import Desk
 from floorkeepers.fitting import back_state, fits, front_state, states_of
 from floorkeepers.floors import barred_things, floors_of, may_be_within, sure_things, surely_within
 from floorkeepers.forms import is_knowledge, is_move, is_start, is_state
 from floorkeepers.hall import Hall
 from floorkeepers.houses import all_states, filled_up, rooms_within, sizes_of, things_on, things_within
 from floorkeepers.housesfor import all_houses, first_against, houses_for
+from floorkeepers.knownkeepers import is_known_run, known_behind, known_can_be, known_most
 from floorkeepers.leading import can_be, first_knowledge, knowledge_behind, led
+from floorkeepers.live import Live
 from floorkeepers.lots import least_within, most_within, pair_floors, state_for
 from floorkeepers.moves import asks_of, can_do, done, downs_many
 from floorkeepers.parting import can_happen, naming_log, parting_log
@@ -23,7 +26,9 @@ from floorkeepers.reasons import is_reason_against, reason_against, reason_not, 
 from floorkeepers.runs import come_to, last_use_run, log_of, ran, worth_run
 from floorkeepers.showing import is_showing, showing_to, showing_with, showings_many
 from floorkeepers.texts import show_book, show_run
+from floorkeepers.unseen import filling_of, floors_behind, hole_floors, is_filling, knowledges_for
 from floorkeepers.words import is_nested, known_sizes, tightened
+from floorkeepers.wrong import fewest_wrong, is_mended, wrong_lots
 from tests.helper import Case
 
 
@@ -177,6 +182,46 @@ class TestExamples(Case):
                    first_against(3, (1, 2), log)], [[(3, (1, 1))], [], 4])
         self.same([len(all_houses(3, 1)), len(all_houses(3, 4)),
                    houses_for(2, 1, (("ask", 0, 1), ("ask", 1, 1), ("ask", 0, 0)))[:2]], [8, 70, [(2, (2,)), (2, (3,))]])
+
+    def test_knownkeepers(self):
+        house, empty = (4, (1, 1)), (2, 2, 2, 2)
+        log = (("ask", 0, 2), ("ask", 1, 2), ("ask", 2, 2))
+        self.same(known_behind(house, empty, 2, log), ((2, 1, 0, 3), ((0, 1, 1, 1, 1), (0, 1, 2, 2, 2))))
+        self.same([known_most(house, empty, log + (("ask", x, 1),)) for x in (0, 1, 2)], [1, 2, None])
+        self.same([known_can_be(house, empty, 2, log),
+                   is_known_run(house, (1, 0, 2, 2), 2, (("ask", 2, (1, 1)),))], [True, False])
+
+    def test_unseen_and_wrong(self):
+        house, empty = (4, (1, 1)), (2, 2, 2, 2)
+        log = (("ask", 0, 2), ("ask", 1, 2), ("ask", 2, None), ("ask", 0, None))
+        self.same(knowledges_for(house, empty, log), [((0, 2, 1, 3), ((0, 1, 1, 1, 1), (0, 1, 1, 2, 2))),
+                                                      ((0, 2, 1, 3), ((0, 1, 1, 1, 1), (0, 1, 2, 2, 2)))])
+        self.same([hole_floors(house, empty, log), hole_floors(house, empty, log + (("ask", 1, 1),)),
+                   floors_behind(house, empty, log, 2)], [((2,), (1, 2)), ((2,), (2,)), (1, 2)])
+        self.same(filling_of(house, empty, log + (("ask", 1, 1),)),
+                  (("ask", 0, 2), ("ask", 1, 2), ("ask", 2, 2), ("ask", 0, 2), ("ask", 1, 1)))
+        bad = (("ask", 0, 2), ("ask", 1, 2), ("ask", 0, 2))
+        self.same([wrong_lots(house, empty, bad), fewest_wrong(house, empty, bad), wrong_lots(house, empty, bad[:2])],
+                  [[(2,)], (1, (("ask", 0, 2), ("ask", 1, 2), ("ask", 0, 1))), [()]])
+        self.same([is_filling(house, empty, log, bad), is_mended(house, empty, bad, 0, bad),
+                   is_mended(house, empty, bad[:2], 0, bad[:2])], [False, False, True])
+
+    def test_live(self):
+        live = Live((4, (1, 1)), (2, 2, 2, 2))
+        self.same([live.enter(("ask", 0, 2)), live.enter(("ask", 1, 2)), live.owe(("within", 1, 0)), live.floors(0)],
+                  [None, None, None, (1,)])
+        self.same([live.knowledge()[0], live.duties(), live.free(("within", 1, 0)), live.back(), live.duties()],
+                  [(1, 0, 2, 3), [("within", 1, 0)], None, None, [("within", 1, 0)]])
+        self.same([live.log(), live.twin() == live, live.back(), live.duties(), live.log()],
+                  [(("ask", 0, 2), ("ask", 1, 2)), True, None, [], (("ask", 0, 2), ("ask", 1, 2))])
+
+    def test_desk(self):
+        desk = Desk("things 4\nrooms 1 1\nstart out out out out\nask 0 out")
+        self.same([desk.execute(" ask 1 out"), desk.execute("ask 2 out"), desk.execute("floors 1"),
+                   desk.execute("word 1")], [[], [], ["1", "out"], ["0", "1", "1", "2", "2"]])
+        self.same([desk.execute("owe within 2 0"), desk.execute("duties"), desk.execute("order"),
+                   desk.execute("book")[2:4]],
+                  [[], ["within 2 0"], ["2", "1", "0", "3"], ["start out out out out", "ask 0 out"]])
 
 
 if __name__ == "__main__":

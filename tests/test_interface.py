@@ -52,10 +52,22 @@ FUNCTIONS = {
     "bestworst": "behind_bounds(house, knowledge, row) best_run(house, start, row) worst_run(house, start, row) "
                  "pattern_with(house, knowledge, row, floor, number) turn_patterns(house, knowledge, row)",
     "housesfor": "all_houses(many, floors) houses_for(many, floors, log) first_against(many, rooms, log)",
+    "knownkeepers": "known_led(house, knowledge, known, entry) known_behind(house, state, known, log) "
+                    "known_can_be(house, state, known, log) is_known_run(house, state, known, run) "
+                    "known_most(house, state, log)",
+    "unseen": "knowledges_for(house, start, holed) hole_floors(house, start, holed) filling_of(house, start, holed) "
+              "floors_behind(house, start, holed, thing) is_filling(house, start, holed, thing)",
+    "wrong": "wrong_lots(house, start, log) fewest_wrong(house, start, log) "
+             "is_mended(house, start, log, number, thing)",
+    "live": "Live(house, start)",
+    "desk": "Desk(text)",
     "errors": "Wrong(place) NoText(line) CannotDo(index) CannotBe(index) TooMany(most) NoIndex(index) Broken(duty) "
               "NoDuty(duty)",
 }
-METHODS = {"hall": ("Hall", "do(move) state() run() log() back() again() twin()")}
+METHODS = {"hall": ("Hall", "do(move) state() run() log() back() again() twin() __eq__(other)"),
+           "live": ("Live", "enter(entry) owe(duty) free(duty) duties() knowledge() log() floors(thing) back() again() "
+                            "twin() __eq__(other)"),
+           "desk": ("Desk", "execute(line) live()")}
 LIBRARY = ("heapq", "math", "itertools", "collections", "__future__")
 BUILTINS = ("len range enumerate zip min max sum abs sorted reversed int str bool bytes list tuple dict set frozenset "
             "isinstance ord repr any all divmod pow getattr hasattr setattr iter next map property staticmethod "
@@ -95,7 +107,6 @@ class TestInterface(unittest.TestCase):
     def test_methods(self):
         for file, (kind, told) in METHODS.items():
             made = getattr(importlib.import_module("floorkeepers." + file), kind)
-            self.assertIn("__eq__", vars(made))
             for name, parameters in named(told):
                 self.assertIn(name, vars(made))
                 self.assertEqual(list(inspect.signature(vars(made)[name]).parameters)[1:], parameters, name)
